@@ -1,0 +1,1 @@
+"""Stairrooms: rooms with one number, and what can be come to."""
