@@ -1,8 +1,26 @@
-"""What the tests of stairs share: stairs by their plain words, and things that are none."""
+"""What the tests share: stairs and houses by their plain words, and things that are none."""
 
+import unittest
 from functools import lru_cache
 from itertools import combinations
 from math import lcm
+
+from stairrooms.errors import StairError
+
+
+class Case(unittest.TestCase):
+    def refused(self, kind, ask, *things):
+        """The refusal that is told, which is of just this class."""
+        with self.assertRaises(StairError) as caught:
+            ask(*things)
+        self.assertIs(type(caught.exception), kind)
+        self.assertIsInstance(caught.exception, ValueError)
+        return caught.exception
+
+    # assertEqual would take minutes to write out how two long lists differ.
+    def same_long_lists(self, told, asked):
+        self.assertEqual(len(told), len(asked))
+        self.assertTrue(told == asked, "two long lists differ")
 
 
 def held(stair, end):
@@ -141,4 +159,264 @@ JUST_LET_BY = [
     (0, 840, (), ()),
     (0, 840, (), (0, 839)),
     (3000, 840, tuple(range(0, 3000, 7)), (3000, 3839)),
+]
+
+# Houses
+
+DEEDS = ["up", "down", "stay", "zero"]
+SIGNS = "abcdefghijklmnopqrstuvwxyz"
+
+
+class Dice:
+    """Throws that are the same in each run and under each Python."""
+
+    def __init__(self, seed):
+        self.state = seed
+
+    def below(self, end):
+        self.state = (self.state * 6364136223846793005 + 1442695040888963407) % 2 ** 64
+        return (self.state >> 33) % end
+
+    def of(self, things):
+        return things[self.below(len(things))]
+
+
+def thrown_house(dice, many, count, deeds=DEEDS):
+    """A house of many rooms and at most count ways."""
+    ways = []
+    for _ in range(count):
+        way = (dice.below(many), dice.of(deeds), dice.below(many), dice.of("abc"))
+        if way not in ways:
+            ways.append(way)
+    return (many, tuple(ways))
+
+
+def thrown_houses(seed, count):
+    dice = Dice(seed)
+    houses = []
+    for _ in range(count):
+        many = 1 + dice.below(5)
+        houses.append(thrown_house(dice, many, dice.below(3 * many + 2)))
+    return houses
+
+
+def gone(way, place):
+    """Where a way leads from a place, or None where it isn't open, straight by point 13."""
+    room, deed, other, _ = way
+    at, number = place
+    if room != at:
+        return None
+    if deed == "up":
+        return (other, number + 1)
+    if deed == "down":
+        return (other, number - 1) if number >= 1 else None
+    if deed == "stay":
+        return (other, number)
+    return (other, number) if number == 0 else None
+
+
+def lengths_from(ways, place, low, high):
+    """How many ways it takes at least to each place, met numbers from low to high alone."""
+    lengths = {place: 0}
+    ring = [place]
+    while ring:
+        farther = []
+        for here in ring:
+            for way in ways:
+                there = gone(way, here)
+                if there is not None and low <= there[1] <= high and there not in lengths:
+                    lengths[there] = lengths[here] + 1
+                    farther.append(there)
+        ring = farther
+    return lengths
+
+
+def places_of(house, end):
+    return [(room, number) for room in range(house[0]) for number in range(end)]
+
+
+def full_house(count=100):
+    """Twelve rooms and count ways, all of them other ones."""
+    ways = [
+        (room, deed, (room + hop) % 12, "z")
+        for hop in range(1, 12)
+        for room in range(12)
+        for deed in DEEDS
+    ]
+    return (12, tuple(ways[:count]))
+
+
+def rings_house(up, down, exit_at):
+    """A ring up from room 0, from there a ring down, which can be left at 0 in one room alone."""
+    ways = [(r, "up", (r + 1) % up, "u") for r in range(up)]
+    ways.append((0, "stay", up, "s"))
+    ways += [(up + r, "down", up + (r + 1) % down, "d") for r in range(down)]
+    ways.append((up + exit_at, "zero", up + down, "z"))
+    return (up + down + 1, tuple(ways))
+
+
+LONE = (1, ())
+PLAIN = (2, ((0, "up", 1, "a"), (1, "zero", 0, "b")))
+MINGLED = (
+    3,
+    (
+        (0, "up", 0, "a"),
+        (0, "stay", 1, "b"),
+        (1, "down", 1, "a"),
+        (1, "zero", 2, "c"),
+        (2, "up", 1, "z"),
+        (2, "zero", 2, "z"),
+        (2, "down", 0, "m"),
+    ),
+)
+
+HOUSES = [
+    LONE,
+    (12, ()),
+    PLAIN,
+    MINGLED,
+    (1, ((0, "up", 0, "a"), (0, "down", 0, "a"), (0, "stay", 0, "a"), (0, "zero", 0, "a"))),
+    (1, ((0, "up", 0, "a"), (0, "up", 0, "z"))),
+    (12, ((11, "up", 0, "a"), (0, "down", 11, "a"), (10, "stay", 9, "x"))),
+    full_house(99),
+    full_house(100),
+    rings_house(5, 6, 1),
+]
+
+WAY = (0, "up", 0, "a")
+
+
+def deep_within(thing, depth):
+    for _ in range(depth):
+        thing = (thing,)
+    return thing
+
+
+NO_HOUSES = [
+    None,
+    True,
+    False,
+    0,
+    1,
+    -1,
+    10 ** 59,
+    "",
+    "1:",
+    "1",
+    "ab",
+    (),
+    [],
+    (1,),
+    ((),),
+    (1, (), ()),
+    (1, (WAY,), ()),
+    [1, ()],
+    [1, (WAY,)],
+    ([1, ()],),
+    ((1, ()),),
+    ((), 1),
+    # the number of rooms
+    (0, ()),
+    (-1, ()),
+    (13, ()),
+    (10 ** 59, ()),
+    (-(10 ** 59), ()),
+    (True, ()),
+    (False, ()),
+    (True, (WAY,)),
+    (None, ()),
+    ("1", ()),
+    ((1,), ()),
+    ([1], ()),
+    # the ways as a whole
+    (1, []),
+    (1, [WAY]),
+    (1, None),
+    (1, 0),
+    (1, True),
+    (1, ""),
+    (1, "abcd"),
+    (1, WAY),
+    (1, (WAY, WAY)),
+    (2, (WAY, (0, "up", 1, "a"), WAY)),
+    full_house(101),
+    full_house(120),
+    (12, full_house(99)[1] + full_house(1)[1]),
+    # a way's form
+    (1, ((),)),
+    (1, (None,)),
+    (1, (0,)),
+    (1, (True,)),
+    (1, ("0 up 0 a",)),
+    (1, ("abcd",)),
+    (1, ([0, "up", 0, "a"],)),
+    (1, ((WAY,),)),
+    (1, ([WAY],)),
+    (1, ((0, "up", 0),)),
+    (1, ((0, "up", 0, "a", "a"),)),
+    (1, (("up", 0, "a"),)),
+    (1, (WAY, ())),
+    (1, (WAY, None)),
+    # a way's rooms
+    (1, ((-1, "up", 0, "a"),)),
+    (1, ((0, "up", -1, "a"),)),
+    (1, ((1, "up", 0, "a"),)),
+    (1, ((0, "up", 1, "a"),)),
+    (2, ((2, "up", 0, "a"),)),
+    (2, ((0, "up", 2, "a"),)),
+    (12, ((12, "up", 0, "a"),)),
+    (12, ((0, "up", 12, "a"),)),
+    (2, ((10 ** 59, "up", 0, "a"),)),
+    (2, ((True, "up", 0, "a"),)),
+    (2, ((0, "up", True, "a"),)),
+    (2, ((False, "up", 0, "a"),)),
+    (2, ((0, "up", False, "a"),)),
+    (2, ((None, "up", 0, "a"),)),
+    (2, ((0, "up", None, "a"),)),
+    (2, (("0", "up", 0, "a"),)),
+    (2, ((0, "up", "0", "a"),)),
+    (2, (((0,), "up", 0, "a"),)),
+    (2, ((0, "up", [0], "a"),)),
+    # a way's deed
+    (1, ((0, "", 0, "a"),)),
+    (1, ((0, "Up", 0, "a"),)),
+    (1, ((0, "UP", 0, "a"),)),
+    (1, ((0, "up ", 0, "a"),)),
+    (1, ((0, " up", 0, "a"),)),
+    (1, ((0, "u", 0, "a"),)),
+    (1, ((0, "left", 0, "a"),)),
+    (1, ((0, "updown", 0, "a"),)),
+    (1, ((0, "zeros", 0, "a"),)),
+    (1, ((0, None, 0, "a"),)),
+    (1, ((0, True, 0, "a"),)),
+    (1, ((0, 0, 0, "a"),)),
+    (1, ((0, ("up",), 0, "a"),)),
+    (1, ((0, ["up"], 0, "a"),)),
+    (1, ((0, [], 0, "a"),)),
+    # a way's sign
+    (1, ((0, "up", 0, ""),)),
+    (1, ((0, "up", 0, "ab"),)),
+    (1, ((0, "up", 0, "aa"),)),
+    (1, ((0, "up", 0, "A"),)),
+    (1, ((0, "up", 0, "Z"),)),
+    (1, ((0, "up", 0, "`"),)),
+    (1, ((0, "up", 0, "{"),)),
+    (1, ((0, "up", 0, " "),)),
+    (1, ((0, "up", 0, "0"),)),
+    (1, ((0, "up", 0, "a "),)),
+    (1, ((0, "up", 0, 0),)),
+    (1, ((0, "up", 0, None),)),
+    (1, ((0, "up", 0, True),)),
+    (1, ((0, "up", 0, ("a",)),)),
+    (1, ((0, "up", 0, ["a"]),)),
+    # one wrong way among good ones
+    (1, (WAY, (0, "down", 0, "a"), (0, "stay", 1, "a"))),
+    (1, ((0, "stay", 0, "A"), WAY, (0, "down", 0, "a"))),
+    # a thing deep within others
+    deep_within((), 3000),
+    (deep_within(1, 3000), ()),
+    (1, deep_within(WAY, 3000)),
+    (1, ((deep_within(0, 3000), "up", 0, "a"),)),
+    (1, ((0, deep_within("up", 3000), 0, "a"),)),
+    (1, ((0, "up", 0, deep_within("a", 3000)),)),
 ]
