@@ -48,6 +48,13 @@ def refuse_no_house(thing):
         raise NoHouse("this is no house")
 
 
+# A place as a looker takes it: with a number that isn't refused elsewhere.
+def is_near_place(thing, house):
+    if not isinstance(thing, tuple) or len(thing) != 2:
+        return False
+    return is_room(thing[0], house[0]) and is_whole(thing[1]) and 0 <= thing[1] <= GREATEST_NUMBER
+
+
 # Of several places NoPlace of any goes ahead of TooGreat of another one.
 def refuse_bad_places(house, places):
     for place in places:
@@ -77,6 +84,10 @@ def is_open(way, place):
 
 def led_to(way, place):
     return (way[2], place[1] + RAISED[way[1]])
+
+
+def led_to_from(ways, place):
+    return [led_to(way, place) for way in ways if is_open(way, place)]
 
 
 def open_ways(house, place):

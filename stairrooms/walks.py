@@ -2,8 +2,16 @@
 
 from stairrooms.errors import NoWalk, TooGreat
 from stairrooms.houses import is_open, led_to, refuse_bad_places, refuse_no_house
+from stairrooms.stairs import is_whole
 
 LONGEST_WALK = 20000
+
+
+# A longer list than a walk may be is none to a looker either.
+def is_walk(thing):
+    if not isinstance(thing, list) or len(thing) > LONGEST_WALK:
+        return False
+    return all([is_whole(count) for count in thing])
 
 
 def refuse_long_walk(walk):
@@ -16,15 +24,23 @@ def can_go(house, place, count):
     return 0 <= count < len(house[1]) and is_open(house[1][count], place)
 
 
+# As far as the walk can be gone: where it can't be gone to its end, the places are too few.
+def places_gone(house, place, walk):
+    places = [place]
+    for count in walk:
+        if not can_go(house, places[-1], count):
+            return places
+        places.append(led_to(house[1][count], places[-1]))
+    return places
+
+
 def walked(house, place, walk):
     refuse_no_house(house)
     refuse_bad_places(house, [place])
     refuse_long_walk(walk)
-    places = [place]
-    for gone, count in enumerate(walk):
-        if not can_go(house, places[gone], count):
-            raise NoWalk(gone)
-        places.append(led_to(house[1][count], places[gone]))
+    places = places_gone(house, place, walk)
+    if len(places) <= len(walk):
+        raise NoWalk(len(places) - 1)
     return places
 
 
@@ -70,10 +86,15 @@ def walk_back(found, goal):
     return list(reversed(walk))
 
 
-def shortest(house, place, goal):
-    refuse_no_house(house)
-    refuse_bad_places(house, [place, goal])
+# The goal's number may be above those that may be handed in.
+def sought_walk(house, place, goal):
     found = found_from(house, place, goal)
     if goal not in found:
         return None
     return walk_back(found, goal)
+
+
+def shortest(house, place, goal):
+    refuse_no_house(house)
+    refuse_bad_places(house, [place, goal])
+    return sought_walk(house, place, goal)

@@ -231,6 +231,64 @@ def lengths_from(ways, place, low, high):
     return lengths
 
 
+def went(house, place, walk):
+    """The places that a walk meets, straight by point 16, or None where it can't be walked."""
+    places = [place]
+    for count in walk:
+        there = gone(house[1][count], places[-1]) if count in range(len(house[1])) else None
+        if there is None:
+            return None
+        places.append(there)
+    return places
+
+
+def found_places(house, place, top):
+    """All places with numbers to top that can be come to; the search goes as far above as point 17 asks."""
+    high = max(top, place[1]) + house[0] * house[0]
+    ways = {room: [way for way in house[1] if way[0] == room] for room in range(house[0])}
+    found = {place}
+    row = [place]
+    for here in row:
+        for way in ways[here[0]]:
+            there = gone(way, here)
+            if there is not None and there[1] <= high and there not in found:
+                found.add(there)
+                row.append(there)
+    return {there for there in found if there[1] <= top}
+
+
+def places_to(house, goal, top):
+    """All places with numbers to top from which the goal can be come to, without turning the house about."""
+    high = max(top, goal[1]) + house[0] * house[0]
+    ahead = {}
+    for here in places_of(house, high + 1):
+        for way in house[1]:
+            ahead.setdefault(gone(way, here), []).append(here)
+    found = {goal}
+    row = [goal]
+    for there in row:
+        for here in ahead.get(there, []):
+            if here not in found:
+                found.add(here)
+                row.append(here)
+    return {there for there in found if there[1] <= top}
+
+
+def numbers_of_rooms(house, places):
+    return [{number for room, number in places if room == r} for r in range(house[0])]
+
+
+def rises_by_words(house, place, walk, ring):
+    """Whether ring is one that rises behind the walk, straight by point 24; both lists of whole numbers."""
+    ahead = went(house, place, walk)
+    places = went(house, ahead[-1], ring) if ahead else None
+    if not ring or not places:
+        return False
+    zeros = [count for count in ring if house[1][count][1] == "zero"]
+    (room, number), (other, raised) = places[0], places[-1]
+    return other == room and raised > number and all(met >= number for _, met in places) and not zeros
+
+
 def places_of(house, end):
     return [(room, number) for room in range(house[0]) for number in range(end)]
 
@@ -253,6 +311,25 @@ def rings_house(up, down, exit_at):
     ways += [(up + r, "down", up + (r + 1) % down, "d") for r in range(down)]
     ways.append((up + exit_at, "zero", up + down, "z"))
     return (up + down + 1, tuple(ways))
+
+
+def side_rings(lengths, gathers):
+    """Rings up, one for each length, all begun from (0, 0); their last rooms lead on to one more room, if gathers."""
+    ways, low = [], 0
+    for length in lengths:
+        ways += [(low + r, "up", low + (r + 1) % length, "u") for r in range(length)]
+        if low > 0:
+            ways.append((0, "zero", low, "z"))
+        if gathers:
+            ways.append((low + length - 1, "stay", sum(lengths), "g"))
+        low += length
+    return (low + gathers, tuple(ways))
+
+
+def late_ring(many):
+    """A ring up with one short cut: as late as can be all rooms are there at each level."""
+    ways = [(r, "up", (r + 1) % many, "u") for r in range(many)]
+    return (many, tuple(ways + [(many - 1, "up", 1, "c")]))
 
 
 LONE = (1, ())
@@ -284,6 +361,13 @@ HOUSES = [
 ]
 
 WAY = (0, "up", 0, "a")
+
+
+# Things that are no house, place, stair, list of such, nor walk, of each sort that a looker may be handed
+STRANGE = [
+    None, True, False, 0, 1, -1, 10 ** 59, "", "a", "up", "0 1 : : 0", (), (None,), (True, False), ("",), [None], [True],
+    ["a"], [[]], [()], ((),), [[0]], [(0,)], ((0, 0),), (0,), (0, 0, 0), [0, 0], ["0", "0"],
+]
 
 
 def deep_within(thing, depth):

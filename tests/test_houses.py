@@ -1,10 +1,14 @@
 import copy
 import unittest
 
+from stairrooms.backward import backward
 from stairrooms.errors import NoHouse, NoPlace, TooGreat
+from stairrooms.forward import forward, rooms_at
 from stairrooms.houses import is_house, open_ways, turned_about
 from stairrooms.levels import fallen, kept, risen
+from stairrooms.papers import answer
 from stairrooms.texts import shown_house
+from stairrooms.tops import greatest
 from stairrooms.walks import shortest, walked
 from tests.helper import (
     DEEDS, HOUSES, LONE, MINGLED, NO_HOUSES, PLAIN, SIGNS, Case, full_house, gone, places_of, thrown_houses,
@@ -19,6 +23,11 @@ HOUSE_ASKS = [
     ("kept", kept),
     ("risen", risen),
     ("fallen", fallen),
+    ("rooms_at", lambda house: rooms_at(house, (0, 0), 0)),
+    ("forward", lambda house: forward(house, (0, 0))),
+    ("answer", lambda house: answer(house, (0, 0), (0, 0))),
+    ("backward", lambda house: backward(house, (0, 0))),
+    ("greatest", lambda house: greatest(house, (0, 0))),
 ]
 
 PLACE_ASKS = [
@@ -26,7 +35,15 @@ PLACE_ASKS = [
     ("walked", lambda house, place: walked(house, place, [])),
     ("shortest from", lambda house, place: shortest(house, place, (0, 0))),
     ("shortest to", lambda house, place: shortest(house, (0, 0), place)),
+    ("rooms_at", lambda house, place: rooms_at(house, place, 0)),
+    ("forward", forward),
+    ("answer from", lambda house, place: answer(house, place, (0, 0))),
+    ("answer to", lambda house, place: answer(house, (0, 0), place)),
+    ("backward", backward),
+    ("greatest", greatest),
 ]
+
+TWO_PLACE_ASKS = [("shortest", shortest), ("answer", answer)]
 
 FAR = 10 ** 59
 NO_PLACES_OF_TWO = [
@@ -98,6 +115,7 @@ class Refusals(Case):
             self.refused(NoHouse, walked, thing, (0, 0), [0] * 20001)
             self.refused(NoHouse, walked, thing, (0, 0), [-1])
             self.refused(NoHouse, shortest, thing, (0, 1001), (0, -1))
+            self.refused(NoHouse, answer, thing, (0, 1001), (0, -1))
 
     def test_what_is_no_place(self):
         for name, ask in PLACE_ASKS:
@@ -125,11 +143,13 @@ class Refusals(Case):
     def test_no_place_of_either_goes_ahead_of_too_great_of_the_other(self):
         for place in NO_PLACES_OF_TWO:
             for great in ((0, 1001), (1, 1001), (0, FAR)):
-                with self.subTest(place=place, great=great):
-                    self.refused(NoPlace, shortest, PLAIN, place, great)
-                    self.refused(NoPlace, shortest, PLAIN, great, place)
-        self.refused(TooGreat, shortest, PLAIN, (0, 1001), (1, 1001))
-        self.refused(TooGreat, shortest, PLAIN, (0, 1001), (0, 1001))
+                for name, ask in TWO_PLACE_ASKS:
+                    with self.subTest(name=name, place=place, great=great):
+                        self.refused(NoPlace, ask, PLAIN, place, great)
+                        self.refused(NoPlace, ask, PLAIN, great, place)
+        for name, ask in TWO_PLACE_ASKS:
+            self.refused(TooGreat, ask, PLAIN, (0, 1001), (1, 1001))
+            self.refused(TooGreat, ask, PLAIN, (0, 1001), (0, 1001))
 
     def test_what_was_refused_is_not_changed_and_may_be_asked_again(self):
         thing = [1, [[0, "up", 0, "a"]]]
