@@ -82,8 +82,12 @@ def is_open(way, place):
     return way[1] != "zero" or place[1] == 0
 
 
+def raised_by(way):
+    return RAISED[way[1]]
+
+
 def led_to(way, place):
-    return (way[2], place[1] + RAISED[way[1]])
+    return (way[2], place[1] + raised_by(way))
 
 
 def led_to_from(ways, place):

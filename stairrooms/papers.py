@@ -1,7 +1,7 @@
 """Papers of never: stairs that no way leaves, which show that a goal can't be come to."""
 
 from stairrooms.forward import forward
-from stairrooms.houses import RAISED, is_house, is_near_place
+from stairrooms.houses import is_house, is_near_place, raised_by
 from stairrooms.pairs import common_step
 from stairrooms.stairs import GREATEST_BASE, GREATEST_STEP, holds, is_stair, marks_below
 from stairrooms.walks import shortest
@@ -30,7 +30,7 @@ def are_stairs_for(house, thing):
 def is_left_by(way, one, other):
     if way[1] == "zero":
         return holds(one, 0) and not holds(other, 0)
-    raised = RAISED[way[1]]
+    raised = raised_by(way)
     end = max(one[0], other[0]) + 1 + common_step(one, other)
     starts = marks_below(one, end)[max(0, -raised):]
     ends = marks_below(other, end + 1)[max(0, raised):]

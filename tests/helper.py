@@ -289,6 +289,33 @@ def rises_by_words(house, place, walk, ring):
     return other == room and raised > number and all(met >= number for _, met in places) and not zeros
 
 
+def stays_by_words(house, place, walk, ring):
+    """Whether ring is one that stays behind the walk, straight by point 26; both lists of whole numbers."""
+    ahead = went(house, place, walk)
+    places = went(house, ahead[-1], ring) if ahead else None
+    return bool(ring) and bool(places) and places[0] == places[-1]
+
+
+def longest_from(house, place):
+    """How many ways a longest walk has, None where there is none: all places by just so many ways, and by one more."""
+    high = place[1] + house[0]
+    here, length = {place}, 0
+    while True:
+        there = {gone(way, at) for at in here for way in house[1]} - {None}
+        if not there:
+            return length
+        length += 1
+        # so many ways only where a place is met twice, or where the numbers rise without end (point 25)
+        if length > house[0] * high or any(number >= high for _, number in there):
+            return None
+        here = there
+
+
+def places_behind(house, places, sign):
+    """Where the ways with a sign lead from any of these places."""
+    return {gone(way, place) for place in places for way in house[1] if way[3] == sign} - {None}
+
+
 def places_of(house, end):
     return [(room, number) for room in range(house[0]) for number in range(end)]
 
@@ -365,8 +392,8 @@ WAY = (0, "up", 0, "a")
 
 # Things that are no house, place, stair, list of such, nor walk, of each sort that a looker may be handed
 STRANGE = [
-    None, True, False, 0, 1, -1, 10 ** 59, "", "a", "up", "0 1 : : 0", (), (None,), (True, False), ("",), [None], [True],
-    ["a"], [[]], [()], ((),), [[0]], [(0,)], ((0, 0),), (0,), (0, 0, 0), [0, 0], ["0", "0"],
+    None, True, False, 0, 1, -1, 10 ** 59, "", "a", "up", "0 1 : : 0", (), (None,), (True, False), ("",), [None],
+    [True], ["a"], [[]], [()], ((),), [[0]], [(0,)], ((0, 0),), (0,), (0, 0, 0), [0, 0], ["0", "0"],
 ]
 
 

@@ -2,14 +2,17 @@ import copy
 import unittest
 
 from stairrooms.backward import backward
+from stairrooms.ends import fate, stops
 from stairrooms.errors import NoHouse, NoPlace, TooGreat
 from stairrooms.forward import forward, rooms_at
 from stairrooms.houses import is_house, open_ways, turned_about
 from stairrooms.levels import fallen, kept, risen
 from stairrooms.papers import answer
+from stairrooms.side import is_bare, side_by_side
 from stairrooms.texts import shown_house
 from stairrooms.tops import greatest
 from stairrooms.walks import shortest, walked
+from stairrooms.words import first_word, first_words, reads
 from tests.helper import (
     DEEDS, HOUSES, LONE, MINGLED, NO_HOUSES, PLAIN, SIGNS, Case, full_house, gone, places_of, thrown_houses,
 )
@@ -28,6 +31,13 @@ HOUSE_ASKS = [
     ("answer", lambda house: answer(house, (0, 0), (0, 0))),
     ("backward", lambda house: backward(house, (0, 0))),
     ("greatest", lambda house: greatest(house, (0, 0))),
+    ("fate", lambda house: fate(house, (0, 0))),
+    ("stops", lambda house: stops(house, (0, 0))),
+    ("reads", lambda house: reads(house, 0, 0, "a")),
+    ("first_word", lambda house: first_word(house, 0, 0)),
+    ("first_words", lambda house: first_words(house, 0, 0, 2, 2)),
+    ("is_bare", is_bare),
+    ("side_by_side", lambda house: side_by_side(house, LONE)),
 ]
 
 PLACE_ASKS = [
@@ -41,6 +51,8 @@ PLACE_ASKS = [
     ("answer to", lambda house, place: answer(house, (0, 0), place)),
     ("backward", backward),
     ("greatest", greatest),
+    ("fate", fate),
+    ("stops", stops),
 ]
 
 TWO_PLACE_ASKS = [("shortest", shortest), ("answer", answer)]

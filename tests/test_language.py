@@ -53,6 +53,11 @@ def nodes_of(file, *kinds):
     return [node for node in ast.walk(tree_of(file)) if isinstance(node, kinds)]
 
 
+# Each asking reads the file anew, so a node is known again by where it stands.
+def spot_of(node):
+    return (node.lineno, node.col_offset)
+
+
 def imports_of(file):
     return [(node.module, name.name) for node in nodes_of(file, ast.ImportFrom) for name in node.names]
 
@@ -113,6 +118,72 @@ class Language(unittest.TestCase):
             found += ["walks" for node in nodes_of(file, ast.ListComp) if len(node.generators) != 1]
             found += ["ifs" for node in nodes_of(file, ast.comprehension) if len(node.ifs) > 1]
             found += ["value" for node in nodes_of(file, ast.Constant) if isinstance(node.value, (float, bytes, complex))]
+            return found
+        self.each(wrongs)
+
+    def test_is_stands_beside_none_true_and_false_alone(self):
+        def wrongs(file):
+            compared = [node for node in nodes_of(file, ast.Compare) if isinstance(node.ops[0], (ast.Is, ast.IsNot))]
+            beside = [ast.unparse(node.comparators[0]) for node in compared]
+            return [text for text in beside if text not in ("None", "True", "False")]
+        self.each(wrongs)
+
+    def test_keywords(self):
+        def wrongs(file):
+            known = {
+                "sorted": ["key", "reverse"], "min": ["key", "default"], "max": ["key", "default"], "sum": ["start"],
+                "enumerate": ["start"], "zip": ["strict"],
+            }
+            found = []
+            for call in nodes_of(file, ast.Call):
+                named = call.func.id if isinstance(call.func, ast.Name) else ""
+                found += [word.arg for word in call.keywords if word.arg not in known.get(named, [])]
+            return found
+        self.each(wrongs)
+
+    def test_texts(self):
+        def wrongs(file):
+            texts = [node.value for node in nodes_of(file, ast.Constant) if isinstance(node.value, str)]
+            held = nodes_of(file, ast.FormattedValue)
+            found = [node.lineno for node in held if not isinstance(node.value, ast.Name) or node.format_spec]
+            return found + [text for text in texts if "%" in text]
+        self.each(wrongs)
+
+    def test_sets_are_neither_kept_nor_walked(self):
+        def wrongs(file):
+            sets = [call for call in nodes_of(file, ast.Call) if ast.unparse(call.func) in ("set", "frozenset")]
+            held = [call for call in nodes_of(file, ast.Call) if ast.unparse(call.func) in ("sorted", "len")]
+            inner = [spot_of(argument) for call in held for argument in call.args]
+            return [ast.unparse(call) for call in sets if spot_of(call) not in inner] + nodes_of(file, ast.Set)
+        self.each(wrongs)
+
+    def test_what_is_walked_on_the_spot(self):
+        def wrongs(file):
+            lazy = ("zip", "enumerate", "reversed", "range")
+            walked = [node.iter for node in nodes_of(file, ast.For, ast.comprehension)]
+            takers = ("list", "tuple", "dict", "sorted", "sum", "any", "all", "enumerate", "zip", "min", "max")
+            calls = [call for call in nodes_of(file, ast.Call) if ast.unparse(call.func) in takers]
+            walked += [call.args[0] for call in calls if call.args]
+            spots = [spot_of(node) for node in walked]
+            kept = [call for call in nodes_of(file, ast.Call) if ast.unparse(call.func) in lazy]
+            return [ast.unparse(call) for call in kept if spot_of(call) not in spots]
+        self.each(wrongs)
+
+    def test_what_a_loop_walks_is_not_changed_in_it(self):
+        changes = ("append", "extend", "insert", "pop", "remove", "clear", "reverse", "update", "setdefault")
+
+        def changed(node):
+            if isinstance(node, ast.Call) and isinstance(node.func, ast.Attribute) and node.func.attr in changes:
+                return ast.unparse(node.func.value)
+            if isinstance(node, ast.Subscript) and isinstance(node.ctx, ast.Store):
+                return ast.unparse(node.value)
+            return None
+
+        def wrongs(file):
+            found = []
+            for loop in nodes_of(file, ast.For):
+                names = [node.id for node in ast.walk(loop.iter) if isinstance(node, ast.Name)]
+                found += [node for part in loop.body for node in map(changed, ast.walk(part)) if node in names]
             return found
         self.each(wrongs)
 

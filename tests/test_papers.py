@@ -270,8 +270,9 @@ class SeesNever(unittest.TestCase):
         self.sees(True, house, (0, 1), (1, 1), stairs)
         wrongs = STRANGE + [
             [0, 1], (0, -1), (1, -1), (-1, 0), (-3, 0), (3, 0), (-FAR, 0), (0, -FAR), (0, True), (0, False), (True, 0),
-            (False, 0), (True, True), (0, None), (None, 0), (0, "0"), ("0", 0), (0, (0,)), ((0,), 0), (0, [0]), (0,), (0, 1, 1),
-            ((0, 1),), [(0, 1)], deep_within((0, 1), 3000), (0, deep_within(1, 3000)), (deep_within(0, 3000), 1),
+            (False, 0), (True, True), (0, None), (None, 0), (0, "0"), ("0", 0), (0, (0,)), ((0,), 0), (0, [0]), (0,),
+            (0, 1, 1), ((0, 1),), [(0, 1)], deep_within((0, 1), 3000), (0, deep_within(1, 3000)),
+            (deep_within(0, 3000), 1),
         ]
         for thing in wrongs:
             self.assertIs(sees_never(house, thing, (1, 0), stairs), False)

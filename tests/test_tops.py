@@ -109,7 +109,8 @@ class Greatest(Case):
         self.assertEqual(greatest(ZERO_IN_THE_RING, (1, 0))[:2], ("most", 1))
 
     def test_the_greatest_number_may_lie_behind_a_zero_way_or_far_down(self):
-        house = (5, ((0, "up", 1, "u"), (1, "down", 0, "d"), (0, "down", 0, "d"), (0, "zero", 2, "z"), (2, "up", 3, "u"), (3, "up", 4, "u")))
+        ways = ((0, "up", 1, "u"), (1, "down", 0, "d"), (0, "down", 0, "d"), (0, "zero", 2, "z"))
+        house = (5, ways + ((2, "up", 3, "u"), (3, "up", 4, "u")))
         self.assertEqual(greatest(house, (0, 0))[:2], ("most", 2))
         self.assertEqual(greatest(house, (0, 1))[:2], ("most", 2))
         self.assertEqual(greatest(house, (0, 2))[:2], ("most", 3))
